@@ -21,7 +21,7 @@ func Open(t *tape.Tape) (*Keeper, api.Errno) {
 	return &Keeper{}, api.OK
 }
 
-// Do does a command (P6 and P7).
+// Do does a command (P6 to P8).
 func (k *Keeper) Do(c api.Command) api.Errno {
 	change, e := k.look(c)
 	if e != api.OK {
@@ -117,7 +117,11 @@ func (k *Keeper) Count(flight int) (api.Totals, api.Errno) {
 
 // Seats tells a page of seats (P10).
 func (k *Keeper) Seats(flight int, from api.Cursor, size int) (api.Page, api.Errno) {
-	return api.Page{}, api.OK
+	f := k.find(flight)
+	if f == nil {
+		return api.Page{}, api.ErrFlight
+	}
+	return f.Page(from, size)
 }
 
 // Follow tells a follower news (P11).

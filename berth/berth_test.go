@@ -34,6 +34,7 @@ func TestP4NewKeeperHasNoFlightsAtTimeZero(t *testing.T) {
 		if v, e := k.Count(n); v != (api.Totals{}) || e != api.ErrFlight {
 			t.Errorf("Count(%d) = %v, %d", n, v, e)
 		}
+		wantNoPage(t, k, n, api.Cursor{}, 1, api.ErrFlight)
 	}
 }
 
@@ -46,6 +47,7 @@ func TestP1NilKeeperAnswers(t *testing.T) {
 	if v, e := k.Count(1); v != (api.Totals{}) || e != api.ErrFlight {
 		t.Errorf("Count = %v, %d", v, e)
 	}
+	wantNoPage(t, k, 1, api.Cursor{}, 1, api.ErrFlight)
 	run(t, k,
 		step{api.ErrKind, api.Command{}},
 		step{api.ErrFlight, block(1, at(1, 1))},
@@ -270,8 +272,10 @@ func TestP6FieldsThatAreNotNamedAreNotLookedAt(t *testing.T) {
 		fill(api.Command{Kind: api.Block}, func(x *api.Command) { x.At = at(1, 1) }),
 		fill(api.Command{Kind: api.Unblock}, func(x *api.Command) { x.At = at(1, 1) }),
 		fill(api.Command{Kind: api.Tick}, func(x *api.Command) { x.Flight, x.Time = far, 1 }),
+		fill(api.Command{Kind: api.Swap}, func(x *api.Command) { x.Plane = plane(1, 2, 1, -1, far, 3, 300) }),
 	)
-	wantCount(t, k, 3, api.Totals{Rear: [4]int{4}})
+	wantCount(t, k, 3, api.Totals{Front: [4]int{2}})
+	wantLeft(t, k, 3, [4]int{2, 0, 0, 0})
 }
 
 func TestP7Tick(t *testing.T) {
@@ -336,7 +340,7 @@ func TestP9TotalsAreTheCallers(t *testing.T) {
 	wantCount(t, k, 1, api.Totals{Front: [4]int{1}, Rear: [4]int{1}})
 }
 
-// TestExamples follows the document's examples, as far as they are built.
+// TestExamples follows the document's examples; those of Follow are not built yet.
 func TestExamples(t *testing.T) {
 	k := open(t)
 	run(t, k,
@@ -372,4 +376,10 @@ func TestExamples(t *testing.T) {
 	wantCount(t, k, 7, api.Totals{Front: [4]int{1, 0, 2, 0}, Rear: [4]int{2, 1, 0, 0}, Sold: [4]int{2, 0, 1, 0}})
 	run(t, k, step{api.OK, tick(1)})
 	wantCount(t, k, 7, api.Totals{Front: [4]int{1, 0, 2, 0}, Rear: [4]int{3, 0, 0, 0}, Sold: [4]int{1, 0, 1, 0}})
+	wantPage(t, k, 7, api.Cursor{}, 2, "1,1:2:5:2:0 1,2:2:9:0:0", cursor(1, 2, 7), true)
+	wantPage(t, k, 7, cursor(1, 2, 7), 10, "1,3 2,1 2,2 2,3", cursor(2, 3, 7), false)
+	run(t, k, step{api.OK, block(7, at(2, 2))})
+	wantNoPage(t, k, 7, cursor(1, 2, 7), 10, api.ErrStale)
+	run(t, k, step{api.OK, swap(7, plane(1, 4, 0))}, step{api.ErrShape, swap(7, plane(1, 2, 0))})
+	wantSeats(t, k, 7, "1,1:2:5:2:0 1,2:2:9:0:0 1,3:3:0:0:0 1,4", 9)
 }

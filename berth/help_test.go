@@ -1,6 +1,8 @@
 package berth_test
 
 import (
+	"strconv"
+	"strings"
 	"testing"
 
 	"berth/api"
@@ -54,6 +56,8 @@ func plane(rows, cols, front int, limits ...int) api.Plane {
 	return p
 }
 
+func cursor(row, col, epoch int) api.Cursor { return api.Cursor{At: at(row, col), Epoch: epoch} }
+
 func at(row, col int) api.Place { return api.Place{Row: row, Col: col} }
 
 func add(n int, p api.Plane) api.Command { return api.Command{Kind: api.Add, Flight: n, Plane: p} }
@@ -82,6 +86,8 @@ func unblock(n int, p api.Place) api.Command {
 	return api.Command{Kind: api.Unblock, Flight: n, At: p}
 }
 
+func swap(n int, p api.Plane) api.Command { return api.Command{Kind: api.Swap, Flight: n, Plane: p} }
+
 func tick(time int) api.Command { return api.Command{Kind: api.Tick, Time: time} }
 
 // sight is all that a keeper tells of one flight.
@@ -90,6 +96,8 @@ type sight struct {
 	leftErrno [api.Classes]api.Errno
 	totals    api.Totals
 	errno     api.Errno
+	epoch     int
+	seats     string
 }
 
 // view is all that a keeper tells.
@@ -103,11 +111,74 @@ func look(k *berth.Keeper) view {
 	for n := range v.flights {
 		s := &v.flights[n]
 		s.totals, s.errno = k.Count(n)
+		list, end, e := readAll(k, n)
+		if e != s.errno {
+			panic("Seats and Count do not tell the same flights")
+		}
+		s.epoch, s.seats = end.Epoch, spell(list)
 		for class := range s.left {
 			s.left[class], s.leftErrno[class] = k.Left(n, class)
 		}
 	}
 	return v
+}
+
+// readAll reads all seats of a flight, page by page; end is behind the last one.
+func readAll(k *berth.Keeper, n int) (list []api.Seat, end api.Cursor, e api.Errno) {
+	for len(list) <= api.MaxRows*api.MaxCols {
+		p, e := k.Seats(n, end, api.MaxPage)
+		list, end = append(list, p.Seats...), p.Next
+		if e != api.OK || !p.More || len(p.Seats) == 0 {
+			return list, end, e
+		}
+	}
+	panic("the pages of a flight do not end")
+}
+
+// spell writes seats as a text; those that are nothing but free by their places alone.
+func spell(list []api.Seat) string {
+	var b strings.Builder
+	for _, s := range list {
+		if b.Len() > 0 {
+			b.WriteByte(' ')
+		}
+		b.WriteString(strconv.Itoa(s.At.Row) + "," + strconv.Itoa(s.At.Col))
+		if s == (api.Seat{At: s.At}) {
+			continue
+		}
+		for _, v := range []int{s.State, s.Party, s.Class, s.Until} {
+			b.WriteString(":" + strconv.Itoa(v))
+		}
+	}
+	return b.String()
+}
+
+// wantSeats looks at all seats of a flight (as spell writes them), and at its epoch.
+func wantSeats(t *testing.T, k *berth.Keeper, n int, want string, epoch int) {
+	t.Helper()
+	list, end, e := readAll(k, n)
+	if spell(list) != want || end.Epoch != epoch || e != api.OK {
+		t.Errorf("Seats(%d) = %s, epoch %d, %d; want %s, epoch %d", n, spell(list), end.Epoch, e, want, epoch)
+	}
+}
+
+// wantPage looks at a page: at its seats (as spell writes them), at Next and at More.
+func wantPage(t *testing.T, k *berth.Keeper, n int, from api.Cursor, size int, want string, next api.Cursor, more bool) api.Cursor {
+	t.Helper()
+	p, e := k.Seats(n, from, size)
+	if spell(p.Seats) != want || p.Next != next || p.More != more || e != api.OK {
+		t.Errorf("Seats(%d, %v, %d) = %v, %d; want %s, %v, %v", n, from, size, p, e, want, next, more)
+	}
+	return p.Next
+}
+
+// wantNoPage looks whether a page is refused.
+func wantNoPage(t *testing.T, k *berth.Keeper, n int, from api.Cursor, size int, want api.Errno) {
+	t.Helper()
+	p, e := k.Seats(n, from, size)
+	if len(p.Seats) != 0 || p.Next != (api.Cursor{}) || p.More || e != want {
+		t.Errorf("Seats(%d, %v, %d) = %v, %d; want nothing, %d", n, from, size, p, e, want)
+	}
 }
 
 func wantLeft(t *testing.T, k *berth.Keeper, n int, want [api.Classes]int) {

@@ -2,9 +2,11 @@ package berth_test
 
 import (
 	"math/rand"
+	"slices"
 	"testing"
 
 	"berth/api"
+	"berth/berth"
 )
 
 // model is a keeper that counts anew whenever it is asked, after the words of the document.
@@ -16,6 +18,7 @@ type model struct {
 type modelFlight struct {
 	plane api.Plane
 	seats []api.Seat // all of them, in their order
+	epoch int
 }
 
 func newModel() *model { return &model{flights: map[int]*modelFlight{}} }
@@ -85,6 +88,17 @@ func (m *model) do(c api.Command) api.Errno {
 	if c.Kind == api.Add {
 		return m.add(c)
 	}
+	e := m.change(f, c)
+	if e == api.OK {
+		f.epoch++
+	}
+	return e
+}
+
+func (m *model) change(f *modelFlight, c api.Command) api.Errno {
+	if c.Kind == api.Swap {
+		return f.swap(c.Plane)
+	}
 	s := f.seat(c.At)
 	if s == nil || c.Kind == api.Move && f.seat(c.To) == nil {
 		return api.ErrSeat
@@ -121,14 +135,82 @@ func (m *model) add(c api.Command) api.Errno {
 			return api.ErrShape
 		}
 	}
-	f := &modelFlight{plane: p}
+	m.flights[c.Flight] = &modelFlight{plane: p, seats: freeSeats(p), epoch: 1}
+	return api.OK
+}
+
+func freeSeats(p api.Plane) []api.Seat {
+	var list []api.Seat
 	for row := 1; row <= p.Rows; row++ {
 		for col := 1; col <= p.Cols; col++ {
-			f.seats = append(f.seats, api.Seat{At: at(row, col)})
+			list = append(list, api.Seat{At: at(row, col)})
 		}
 	}
-	m.flights[c.Flight] = f
+	return list
+}
+
+func (f *modelFlight) swap(p api.Plane) api.Errno {
+	filled := 0
+	for _, s := range f.seats {
+		if s.State != api.Free {
+			filled++
+		}
+	}
+	if p.Rows < 1 || p.Rows > 20 || p.Cols < 1 || p.Cols > 6 || p.Front < 0 || p.Front > p.Rows || p.Rows*p.Cols < filled {
+		return api.ErrShape
+	}
+	old := f.seats
+	f.plane.Rows, f.plane.Cols, f.plane.Front = p.Rows, p.Cols, p.Front
+	f.seats = freeSeats(p)
+	for _, s := range old {
+		if to := f.seat(s.At); to != nil {
+			*to = s
+		}
+	}
+	for _, s := range old {
+		if s.State != api.Free && f.seat(s.At) == nil {
+			to := f.firstFree()
+			s.At = to.At
+			*to = s
+		}
+	}
 	return api.OK
+}
+
+func (f *modelFlight) firstFree() *api.Seat {
+	for i := range f.seats {
+		if f.seats[i].State == api.Free {
+			return &f.seats[i]
+		}
+	}
+	return nil
+}
+
+// page tells a page after the words of the document.
+func (m *model) page(n int, from api.Cursor, size int) (api.Page, api.Errno) {
+	f := m.flights[n]
+	switch {
+	case f == nil:
+		return api.Page{}, api.ErrFlight
+	case size < 1 || size > 30:
+		return api.Page{}, api.ErrPage
+	case from != api.Cursor{} && from.Epoch != f.epoch:
+		return api.Page{}, api.ErrStale
+	case from != api.Cursor{} && f.seat(from.At) == nil:
+		return api.Page{}, api.ErrSeat
+	}
+	p := api.Page{Next: api.Cursor{At: from.At, Epoch: f.epoch}}
+	for _, s := range f.seats {
+		behind := s.At.Row > from.At.Row || s.At.Row == from.At.Row && s.At.Col > from.At.Col
+		switch {
+		case behind && len(p.Seats) == size:
+			p.More = true
+		case behind:
+			p.Seats = append(p.Seats, s)
+			p.Next.At = s.At
+		}
+	}
+	return p, api.OK
 }
 
 func (m *model) tick(time int) api.Errno {
@@ -137,10 +219,15 @@ func (m *model) tick(time int) api.Errno {
 	}
 	m.now += time
 	for _, f := range m.flights {
+		freed := 0
 		for i, s := range f.seats {
 			if s.State == api.Held && s.Until <= m.now {
 				f.seats[i] = api.Seat{At: s.At}
+				freed++
 			}
+		}
+		if freed > 0 {
+			f.epoch++
 		}
 	}
 	return api.OK
@@ -195,7 +282,7 @@ func (m *model) look() view {
 		if f == nil {
 			s.errno = api.ErrFlight
 		} else {
-			s.totals = f.totals()
+			s.totals, s.epoch, s.seats = f.totals(), f.epoch, spell(f.seats)
 		}
 		for class := range s.left {
 			s.leftErrno[class] = s.errno
@@ -210,7 +297,7 @@ func (m *model) look() view {
 // randomCommand gives a command, most of whose numbers may be, but not all.
 func randomCommand(r *rand.Rand, now int) api.Command {
 	place := func() api.Place { return at(r.Intn(41)/10, r.Intn(41)/10) }
-	c := api.Command{Kind: api.Add + r.Intn(8), Flight: 1 + r.Intn(3), At: place(), To: place(), Party: 1 + r.Intn(2), Class: r.Intn(4), Time: now + 1 + r.Intn(30)}
+	c := api.Command{Kind: api.Add + r.Intn(9), Flight: 1 + r.Intn(3), At: place(), To: place(), Party: 1 + r.Intn(2), Class: r.Intn(4), Time: now + 1 + r.Intn(30)}
 	switch r.Intn(30) {
 	case 0:
 		c.Kind = r.Intn(20) - 5
@@ -226,11 +313,21 @@ func randomCommand(r *rand.Rand, now int) api.Command {
 	if c.Kind == api.Tick {
 		c.Time = r.Intn(11) - 1
 	}
-	if c.Kind == api.Swap { // not yet
-		c.Kind = api.Book
-	}
 	c.Plane = randomPlane(r)
 	return c
+}
+
+// randomCursor gives a cursor into a flight of the epoch; mostly one that may be.
+func randomCursor(r *rand.Rand, epoch int) api.Cursor {
+	switch r.Intn(8) {
+	case 0, 1:
+		return api.Cursor{}
+	case 2:
+		return cursor(r.Intn(5), r.Intn(5), epoch-1+r.Intn(3))
+	case 3:
+		return cursor(r.Intn(2), r.Intn(2), 0)
+	}
+	return cursor(r.Intn(4), r.Intn(4), epoch)
 }
 
 func randomPlane(r *rand.Rand) api.Plane {
@@ -244,13 +341,29 @@ func randomPlane(r *rand.Rand) api.Plane {
 	return p
 }
 
-// TestP3P6P7P9KeeperIsAsCountingAnew runs two keepers, by turns, beside models of them.
-func TestP3P6P7P9KeeperIsAsCountingAnew(t *testing.T) {
+// samePage asks keeper and model for the same page, and tells what the keeper answered.
+func samePage(t *testing.T, r *rand.Rand, k *berth.Keeper, m *model) api.Errno {
+	t.Helper()
+	n, epoch := r.Intn(5), 0
+	if f := m.flights[n]; f != nil {
+		epoch = f.epoch
+	}
+	from, size := randomCursor(r, epoch), []int{1, 2, 3, 5, 8, 29, 30, 31, 0, -1}[r.Intn(10)]
+	p, e := k.Seats(n, from, size)
+	want, wantErrno := m.page(n, from, size)
+	if !slices.Equal(p.Seats, want.Seats) || p.Next != want.Next || p.More != want.More || e != wantErrno {
+		t.Fatalf("Seats(%d, %v, %d) = %v, %d; want %v, %d", n, from, size, p, e, want, wantErrno)
+	}
+	return e
+}
+
+// TestP3P6P7P8P9P10KeeperIsAsCountingAnew runs two keepers, by turns, beside models of them.
+func TestP3P6P7P8P9P10KeeperIsAsCountingAnew(t *testing.T) {
 	type answer struct {
 		kind int
 		e    api.Errno
 	}
-	seen := map[answer]int{}
+	seen, pages := map[answer]int{}, map[api.Errno]int{}
 	for seed := range int64(60) {
 		r := rand.New(rand.NewSource(seed))
 		a, b := open(t), open(t)
@@ -269,6 +382,7 @@ func TestP3P6P7P9KeeperIsAsCountingAnew(t *testing.T) {
 			if look(k) != m.look() {
 				t.Fatalf("seed %d, command %d: after Do(%+v) = %d: %v, want %v", seed, i, c, want, look(k), m.look())
 			}
+			pages[samePage(t, r, k, m)]++
 		}
 		if look(a) != ma.look() || look(b) != mb.look() {
 			t.Fatalf("seed %d: a keeper was changed by another one", seed)
@@ -283,9 +397,15 @@ func TestP3P6P7P9KeeperIsAsCountingAnew(t *testing.T) {
 		{api.Block, api.OK}, {api.Block, api.ErrSeat}, {api.Block, api.ErrTaken},
 		{api.Unblock, api.OK}, {api.Unblock, api.ErrSeat}, {api.Unblock, api.ErrState},
 		{api.Tick, api.OK}, {api.Tick, api.ErrTime},
+		{api.Swap, api.OK}, {api.Swap, api.ErrFlight}, {api.Swap, api.ErrShape},
 	} {
 		if seen[x] < 20 {
 			t.Errorf("kind %d was answered %d %d times only: the commands try too little", x.kind, x.e, seen[x])
+		}
+	}
+	for _, e := range []api.Errno{api.OK, api.ErrFlight, api.ErrPage, api.ErrStale, api.ErrSeat} {
+		if pages[e] < 20 {
+			t.Errorf("Seats answered %d %d times only: the calls try too little", e, pages[e])
 		}
 	}
 }

@@ -29,34 +29,82 @@ type Shift struct {
 	At, To api.Place
 }
 
+// Refit gives a flight other rows, columns and another front cabin; its limits stay.
+type Refit struct {
+	Rows, Cols, Front int
+}
+
 // Pass is that it is Now. It is done to every flight.
 type Pass struct {
 	Now int
 }
 
 func (c Start) Do(f *Flight) {
-	p := c.Plane
-	f.plane = p
-	f.seats = map[api.Place]Seat{}
-	f.totals.Front[api.Free] = p.Front * p.Cols
-	f.totals.Rear[api.Free] = (p.Rows - p.Front) * p.Cols
-	f.reckon()
+	f.fit(c.Plane)
+	f.epoch++
 }
 
-func (c Fill) Do(f *Flight) { f.put(c.At, c.With) }
+func (c Fill) Do(f *Flight) {
+	f.put(c.At, c.With)
+	f.epoch++
+}
 
-func (c Empty) Do(f *Flight) { f.put(c.At, Seat{}) }
+func (c Empty) Do(f *Flight) {
+	f.put(c.At, Seat{})
+	f.epoch++
+}
 
 func (c Shift) Do(f *Flight) {
 	s := f.seats[c.At]
 	f.put(c.At, Seat{})
 	f.put(c.To, s)
+	f.epoch++
+}
+
+func (c Refit) Do(f *Flight) {
+	old := *f
+	f.fit(api.Plane{Rows: c.Rows, Cols: c.Cols, Front: c.Front, Limits: old.plane.Limits})
+	// Those who stay come first: nobody else may have their seats.
+	f.reseat(f.settle(old))
+	f.epoch++
 }
 
 func (c Pass) Do(f *Flight) {
+	before := f.totals.Sold
 	for at, s := range f.seats {
 		if s.State == api.Held && s.Until <= c.Now {
 			f.put(at, Seat{})
 		}
+	}
+	// Each seat that became free here is one less of those sold.
+	if f.totals.Sold != before {
+		f.epoch++
+	}
+}
+
+// settle fills the seats that are there as in the old plane, and gives those that are not, in the order of their places.
+func (f *Flight) settle(old Flight) []Seat {
+	var without []Seat
+	for i := range old.size() {
+		at := old.placeAt(i)
+		s, filled := old.seats[at]
+		switch {
+		case filled && f.has(at):
+			f.put(at, s)
+		case filled:
+			without = append(without, s)
+		}
+	}
+	return without
+}
+
+// reseat puts each of the seats, one after the other, at the first place that is free.
+func (f *Flight) reseat(seats []Seat) {
+	i := 0
+	for _, s := range seats {
+		for f.seats[f.placeAt(i)].State != api.Free {
+			i++
+		}
+		f.put(f.placeAt(i), s)
 	}
 }

@@ -14,6 +14,7 @@ type Flight struct {
 	seats  map[api.Place]Seat // those that are not free
 	totals api.Totals
 	left   [api.Classes]int
+	epoch  int // how many changes have changed a seat or the plane
 }
 
 // Totals tells how many seats are in each state, and how many are sold of each class.
@@ -27,7 +28,28 @@ func (f *Flight) has(at api.Place) bool {
 	return at.Row >= 1 && at.Row <= f.plane.Rows && at.Col >= 1 && at.Col <= f.plane.Cols
 }
 
-// put makes the seat at the place what it is from now on. No seat changes but by it, so that the counts stay true.
+// size is how many seats there are.
+func (f *Flight) size() int { return f.plane.Rows * f.plane.Cols }
+
+// placeAt is the place that has so many places ahead of it, in their order.
+func (f *Flight) placeAt(ahead int) api.Place {
+	return api.Place{Row: ahead/f.plane.Cols + 1, Col: ahead%f.plane.Cols + 1}
+}
+
+// ahead is how many places are ahead of the place of a seat, in their order.
+func (f *Flight) ahead(at api.Place) int { return (at.Row-1)*f.plane.Cols + at.Col - 1 }
+
+// fit gives the flight the plane, with all seats free.
+func (f *Flight) fit(p api.Plane) {
+	f.plane = p
+	f.seats = map[api.Place]Seat{}
+	f.totals = api.Totals{}
+	f.totals.Front[api.Free] = p.Front * p.Cols
+	f.totals.Rear[api.Free] = (p.Rows - p.Front) * p.Cols
+	f.reckon()
+}
+
+// put makes the seat at the place what it is from now on. But for fit, no seat changes but by it, so that the counts stay true.
 func (f *Flight) put(at api.Place, s Seat) {
 	f.tally(at, f.seats[at], -1)
 	f.tally(at, s, 1)

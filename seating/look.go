@@ -40,7 +40,7 @@ func LookTick(time, now int) (Change, api.Errno) {
 // Look looks over a command to this flight: neither an Add nor a Tick.
 func (f *Flight) Look(c api.Command, now int) (Change, api.Errno) {
 	if c.Kind == api.Swap {
-		return nil, api.ErrKind // it cannot be done yet, and OK would say that it was
+		return f.lookSwap(c.Plane)
 	}
 	if !f.has(c.At) || c.Kind == api.Move && !f.has(c.To) {
 		return nil, api.ErrSeat
@@ -60,6 +60,14 @@ func (f *Flight) Look(c api.Command, now int) (Change, api.Errno) {
 		return f.lookUnblock(c)
 	}
 	return nil, api.ErrKind
+}
+
+// lookSwap looks over another plane for the flight; its limits are nobody's.
+func (f *Flight) lookSwap(p api.Plane) (Change, api.Errno) {
+	if !shapeMayBe(p) || p.Rows*p.Cols < len(f.seats) {
+		return nil, api.ErrShape
+	}
+	return Refit{Rows: p.Rows, Cols: p.Cols, Front: p.Front}, api.OK
 }
 
 func (f *Flight) lookHold(c api.Command, now int) (Change, api.Errno) {

@@ -43,21 +43,23 @@ func TestP6EachKindOfChange(t *testing.T) {
 		totals api.Totals
 		left   [4]int
 		seats  int
+		epoch  int
 	}{
-		{Fill{At: place(1, 1), With: held}, api.Totals{Front: [4]int{2, 1}, Rear: [4]int{3}, Sold: [4]int{0, 0, 1}}, [4]int{5, 3, 1, 0}, 1},
-		{Fill{At: place(2, 3), With: booked}, api.Totals{Front: [4]int{2, 1}, Rear: [4]int{2, 0, 1}, Sold: [4]int{1, 0, 1}}, [4]int{4, 3, 1, 0}, 2},
-		{Fill{At: place(2, 2), With: Seat{State: api.Blocked}}, api.Totals{Front: [4]int{2, 1}, Rear: [4]int{1, 0, 1, 1}, Sold: [4]int{1, 0, 1}}, [4]int{3, 3, 1, 0}, 3},
-		{Shift{At: place(2, 3), To: place(1, 2)}, api.Totals{Front: [4]int{1, 1, 1}, Rear: [4]int{2, 0, 0, 1}, Sold: [4]int{1, 0, 1}}, [4]int{3, 3, 1, 0}, 3},
-		{Empty{At: place(2, 2)}, api.Totals{Front: [4]int{1, 1, 1}, Rear: [4]int{3}, Sold: [4]int{1, 0, 1}}, [4]int{4, 3, 1, 0}, 2},
-		{Pass{Now: 9}, api.Totals{Front: [4]int{1, 1, 1}, Rear: [4]int{3}, Sold: [4]int{1, 0, 1}}, [4]int{4, 3, 1, 0}, 2},
-		{Pass{Now: 10}, api.Totals{Front: [4]int{2, 0, 1}, Rear: [4]int{3}, Sold: [4]int{1}}, [4]int{5, 4, 2, 0}, 1},
+		{Fill{At: place(1, 1), With: held}, api.Totals{Front: [4]int{2, 1}, Rear: [4]int{3}, Sold: [4]int{0, 0, 1}}, [4]int{5, 3, 1, 0}, 1, 2},
+		{Fill{At: place(2, 3), With: booked}, api.Totals{Front: [4]int{2, 1}, Rear: [4]int{2, 0, 1}, Sold: [4]int{1, 0, 1}}, [4]int{4, 3, 1, 0}, 2, 3},
+		{Fill{At: place(2, 2), With: Seat{State: api.Blocked}}, api.Totals{Front: [4]int{2, 1}, Rear: [4]int{1, 0, 1, 1}, Sold: [4]int{1, 0, 1}}, [4]int{3, 3, 1, 0}, 3, 4},
+		{Shift{At: place(2, 3), To: place(1, 2)}, api.Totals{Front: [4]int{1, 1, 1}, Rear: [4]int{2, 0, 0, 1}, Sold: [4]int{1, 0, 1}}, [4]int{3, 3, 1, 0}, 3, 5},
+		{Empty{At: place(2, 2)}, api.Totals{Front: [4]int{1, 1, 1}, Rear: [4]int{3}, Sold: [4]int{1, 0, 1}}, [4]int{4, 3, 1, 0}, 2, 6},
+		{Pass{Now: 9}, api.Totals{Front: [4]int{1, 1, 1}, Rear: [4]int{3}, Sold: [4]int{1, 0, 1}}, [4]int{4, 3, 1, 0}, 2, 6},
+		{Pass{Now: 10}, api.Totals{Front: [4]int{2, 0, 1}, Rear: [4]int{3}, Sold: [4]int{1}}, [4]int{5, 4, 2, 0}, 1, 7},
+		{Refit{Rows: 3, Cols: 1, Front: 3}, api.Totals{Front: [4]int{2, 0, 1}, Sold: [4]int{1}}, [4]int{2, 2, 2, 0}, 1, 8},
 	} {
 		s.c.Do(f)
-		if f.Totals() != s.totals || f.Left() != s.left || len(f.seats) != s.seats {
-			t.Errorf("after %#v: %v, %v, %d seats not free; want %v, %v, %d", s.c, f.Totals(), f.Left(), len(f.seats), s.totals, s.left, s.seats)
+		if f.Totals() != s.totals || f.Left() != s.left || len(f.seats) != s.seats || f.epoch != s.epoch {
+			t.Errorf("after %#v: %v, %v, %d seats not free, epoch %d; want %v, %v, %d, %d", s.c, f.Totals(), f.Left(), len(f.seats), f.epoch, s.totals, s.left, s.seats, s.epoch)
 		}
 	}
-	if f.seats[place(1, 2)] != booked {
-		t.Errorf("the seat that was moved is %v, want %v", f.seats[place(1, 2)], booked)
+	if f.seats[place(1, 1)] != booked {
+		t.Errorf("the seat that was moved is %v, want %v", f.seats[place(1, 1)], booked)
 	}
 }
