@@ -3,14 +3,16 @@ package berth
 
 import (
 	"berth/api"
+	"berth/following"
 	"berth/seating"
 	"berth/tape"
 )
 
 // Keeper is a keeper of seats, on a tape. Its methods never panic, not even at the nil that Open answers beside an error.
 type Keeper struct {
-	now     int
-	flights [api.MaxFlight + 1]*seating.Flight // by their numbers; nil: there is no such flight
+	now       int
+	flights   [api.MaxFlight + 1]*seating.Flight // by their numbers; nil: there is no such flight
+	followers [api.Followers]following.Follower
 }
 
 // Open gives the keeper whose tape this is (P4).
@@ -103,7 +105,7 @@ func (k *Keeper) Left(flight int, class int) (int, api.Errno) {
 	case class < 0 || class >= api.Classes:
 		return 0, api.ErrClass
 	}
-	return min(f.Left()[class], api.MostTold), api.OK
+	return f.Left()[class], api.OK
 }
 
 // Count tells how many seats are in each state (P9).
@@ -126,7 +128,15 @@ func (k *Keeper) Seats(flight int, from api.Cursor, size int) (api.Page, api.Err
 
 // Follow tells a follower news (P11).
 func (k *Keeper) Follow(follower int, most int) (api.Bulletin, api.Errno) {
-	return api.Bulletin{}, api.OK
+	switch {
+	case follower < 0 || follower >= api.Followers:
+		return api.Bulletin{}, api.ErrFollow
+	case most < 1 || most > api.MaxNews:
+		return api.Bulletin{}, api.ErrPage
+	case k == nil:
+		return api.Bulletin{}, api.OK
+	}
+	return k.followers[follower].Tell(k.flights[:], most), api.OK
 }
 
 // Pack makes the tape short (P12).

@@ -48,6 +48,9 @@ func TestP1NilKeeperAnswers(t *testing.T) {
 		t.Errorf("Count = %v, %d", v, e)
 	}
 	wantNoPage(t, k, 1, api.Cursor{}, 1, api.ErrFlight)
+	wantNoNews(t, k, api.Followers, 1, api.ErrFollow)
+	wantNoNews(t, k, 0, 0, api.ErrPage)
+	wantNoNews(t, k, 0, 1, api.OK)
 	run(t, k,
 		step{api.ErrKind, api.Command{}},
 		step{api.ErrFlight, block(1, at(1, 1))},
@@ -340,7 +343,7 @@ func TestP9TotalsAreTheCallers(t *testing.T) {
 	wantCount(t, k, 1, api.Totals{Front: [4]int{1}, Rear: [4]int{1}})
 }
 
-// TestExamples follows the document's examples; those of Follow are not built yet.
+// TestExamples follows the document's examples but for the last one.
 func TestExamples(t *testing.T) {
 	k := open(t)
 	run(t, k,
@@ -382,4 +385,24 @@ func TestExamples(t *testing.T) {
 	wantNoPage(t, k, 7, cursor(1, 2, 7), 10, api.ErrStale)
 	run(t, k, step{api.OK, swap(7, plane(1, 4, 0))}, step{api.ErrShape, swap(7, plane(1, 2, 0))})
 	wantSeats(t, k, 7, "1,1:2:5:2:0 1,2:2:9:0:0 1,3:3:0:0:0 1,4", 9)
+}
+
+// TestExampleOfFollow follows the last of the document's examples.
+func TestExampleOfFollow(t *testing.T) {
+	on := tape.New(100000)
+	k, e := berth.Open(on)
+	if e != api.OK {
+		t.Fatalf("Open = %d", e)
+	}
+	run(t, k, step{api.OK, add(7, plane(2, 3, 1, 6, 4, 2, 0))}, step{api.OK, book(7, at(1, 1), 5, 2)})
+	wantNews(t, k, 0, 3, "! 7.0=5 7.1=3 7.2=1 +")
+	wantNews(t, k, 0, 3, "7.3=0 ")
+	wantNews(t, k, 0, 3, "")
+	run(t, k, step{api.OK, cancel(7, at(1, 1), 5)})
+	wantNews(t, k, 0, 3, "7.0=6 7.1=4 7.2=2 ")
+	k, e = berth.Open(on)
+	if e != api.OK {
+		t.Fatalf("Open = %d", e)
+	}
+	wantNews(t, k, 0, 50, allNews(k))
 }

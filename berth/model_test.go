@@ -11,8 +11,15 @@ import (
 
 // model is a keeper that counts anew whenever it is asked, after the words of the document.
 type model struct {
-	now     int
-	flights map[int]*modelFlight
+	now       int
+	flights   map[int]*modelFlight
+	followers [8]modelFollower
+}
+
+// modelFollower is who follows, and all that was told, in the order in which it was.
+type modelFollower struct {
+	asked bool
+	told  []api.News
 }
 
 type modelFlight struct {
@@ -213,6 +220,42 @@ func (m *model) page(n int, from api.Cursor, size int) (api.Page, api.Errno) {
 	return p, api.OK
 }
 
+// follow tells news after the words of the document.
+func (m *model) follow(follower, most int) (api.Bulletin, api.Errno) {
+	if follower < 0 || follower > 7 {
+		return api.Bulletin{}, api.ErrFollow
+	}
+	if most < 1 || most > 50 {
+		return api.Bulletin{}, api.ErrPage
+	}
+	f := &m.followers[follower]
+	b := api.Bulletin{Fresh: !f.asked}
+	f.asked = true
+	for n := 1; n <= 20; n++ {
+		for class := 0; class < 4 && m.flights[n] != nil; class++ {
+			news := api.News{Flight: n, Class: class, Left: min(m.flights[n].left(class), 9)}
+			if last := f.last(n, class); last == nil || *last != news {
+				b.News = append(b.News, news)
+			}
+		}
+	}
+	if len(b.News) > most {
+		b.News, b.More = b.News[:most], true
+	}
+	f.told = append(f.told, b.News...)
+	return b, api.OK
+}
+
+// last gives what was told last of a class of a flight, or nil.
+func (f *modelFollower) last(n, class int) *api.News {
+	for i := len(f.told) - 1; i >= 0; i-- {
+		if f.told[i].Flight == n && f.told[i].Class == class {
+			return &f.told[i]
+		}
+	}
+	return nil
+}
+
 func (m *model) tick(time int) api.Errno {
 	if time < 1 || time > 100 {
 		return api.ErrTime
@@ -332,6 +375,10 @@ func randomCursor(r *rand.Rand, epoch int) api.Cursor {
 
 func randomPlane(r *rand.Rand) api.Plane {
 	p := api.Plane{Rows: r.Intn(31) / 8, Cols: r.Intn(31) / 8}
+	if r.Intn(4) == 0 {
+		// Enough seats for more to be left than is told.
+		p.Rows += r.Intn(4)
+	}
 	p.Front = r.Intn(p.Rows+2) - r.Intn(2)
 	most := r.Intn(20)
 	for i := range p.Limits {
@@ -357,13 +404,36 @@ func samePage(t *testing.T, r *rand.Rand, k *berth.Keeper, m *model) api.Errno {
 	return e
 }
 
-// TestP3P6P7P8P9P10KeeperIsAsCountingAnew runs two keepers, by turns, beside models of them.
-func TestP3P6P7P8P9P10KeeperIsAsCountingAnew(t *testing.T) {
+// sameNews asks keeper and model for the same bulletin, and tells what the keeper answered, and how.
+func sameNews(t *testing.T, r *rand.Rand, k *berth.Keeper, m *model) (api.Bulletin, api.Errno) {
+	t.Helper()
+	follower, most := r.Intn(8), []int{1, 1, 2, 3, 4, 5, 12, 50}[r.Intn(8)]
+	switch r.Intn(30) {
+	case 0:
+		follower = []int{-1, 8, far}[r.Intn(3)]
+	case 1:
+		most = []int{-1, 0, 51}[r.Intn(3)]
+	}
+	b, e := k.Follow(follower, most)
+	want, wantErrno := m.follow(follower, most)
+	if spellNews(b) != spellNews(want) || e != wantErrno {
+		t.Fatalf("Follow(%d, %d) = %s, %d; want %s, %d", follower, most, spellNews(b), e, spellNews(want), wantErrno)
+	}
+	return b, e
+}
+
+// TestP3P6P7P8P9P10P11KeeperIsAsCountingAnew runs two keepers, by turns, beside models of them.
+func TestP3P6P7P8P9P10P11KeeperIsAsCountingAnew(t *testing.T) {
 	type answer struct {
 		kind int
 		e    api.Errno
 	}
-	seen, pages := map[answer]int{}, map[api.Errno]int{}
+	type bulletin struct {
+		fresh, more bool
+		any         bool
+		e           api.Errno
+	}
+	seen, pages, bulletins := map[answer]int{}, map[api.Errno]int{}, map[bulletin]int{}
 	for seed := range int64(60) {
 		r := rand.New(rand.NewSource(seed))
 		a, b := open(t), open(t)
@@ -383,6 +453,10 @@ func TestP3P6P7P8P9P10KeeperIsAsCountingAnew(t *testing.T) {
 				t.Fatalf("seed %d, command %d: after Do(%+v) = %d: %v, want %v", seed, i, c, want, look(k), m.look())
 			}
 			pages[samePage(t, r, k, m)]++
+			if r.Intn(3) == 0 {
+				b, e := sameNews(t, r, k, m)
+				bulletins[bulletin{b.Fresh, b.More, len(b.News) > 0, e}]++
+			}
 		}
 		if look(a) != ma.look() || look(b) != mb.look() {
 			t.Fatalf("seed %d: a keeper was changed by another one", seed)
@@ -406,6 +480,15 @@ func TestP3P6P7P8P9P10KeeperIsAsCountingAnew(t *testing.T) {
 	for _, e := range []api.Errno{api.OK, api.ErrFlight, api.ErrPage, api.ErrStale, api.ErrSeat} {
 		if pages[e] < 20 {
 			t.Errorf("Seats answered %d %d times only: the calls try too little", e, pages[e])
+		}
+	}
+	for _, b := range []bulletin{
+		{true, false, false, api.OK}, {true, false, true, api.OK}, {true, true, true, api.OK},
+		{false, false, false, api.OK}, {false, false, true, api.OK}, {false, true, true, api.OK},
+		{false, false, false, api.ErrFollow}, {false, false, false, api.ErrPage},
+	} {
+		if bulletins[b] < 20 {
+			t.Errorf("Follow answered %v %d times only: the calls try too little", b, bulletins[b])
 		}
 	}
 }

@@ -20,8 +20,14 @@ type Flight struct {
 // Totals tells how many seats are in each state, and how many are sold of each class.
 func (f *Flight) Totals() api.Totals { return f.totals }
 
-// Left tells how many seats are left of each class.
-func (f *Flight) Left() [api.Classes]int { return f.left }
+// Left tells how many seats are left of each class, MostTold at the most.
+func (f *Flight) Left() [api.Classes]int {
+	told := f.left
+	for class, n := range told {
+		told[class] = min(n, api.MostTold)
+	}
+	return told
+}
 
 // has tells whether there is a seat at the place.
 func (f *Flight) has(at api.Place) bool {
