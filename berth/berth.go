@@ -5,6 +5,8 @@ import (
 	"berth/api"
 	"berth/following"
 	"berth/seating"
+	"berth/spelling"
+	"berth/storing"
 	"berth/tape"
 )
 
@@ -13,6 +15,7 @@ type Keeper struct {
 	now       int
 	flights   [api.MaxFlight + 1]*seating.Flight // by their numbers; nil: there is no such flight
 	followers [api.Followers]following.Follower
+	store     storing.Store
 }
 
 // Open gives the keeper whose tape this is (P4).
@@ -20,7 +23,15 @@ func Open(t *tape.Tape) (*Keeper, api.Errno) {
 	if t == nil || t.Room() < api.FileRoom {
 		return nil, api.ErrSpace
 	}
-	return &Keeper{}, api.OK
+	store, entries, e := storing.Open(t)
+	if e != api.OK {
+		return nil, e
+	}
+	k := &Keeper{store: store}
+	for _, x := range entries {
+		k.apply(x)
+	}
+	return k, api.OK
 }
 
 // Do does a command (P6 to P8).
@@ -29,11 +40,42 @@ func (k *Keeper) Do(c api.Command) api.Errno {
 	if e != api.OK {
 		return e
 	}
+	x := spelling.Entry{Flight: c.Flight, Change: change}
+	if e := k.save(x); e != api.OK {
+		return e
+	}
+	k.apply(x)
+	return api.OK
+}
+
+// save lays a change on the tape, where it lasts.
+func (k *Keeper) save(x spelling.Entry) api.Errno {
 	if k == nil {
 		return api.ErrShut
 	}
-	k.apply(c.Flight, change)
-	return api.OK
+	if k.store.Torn() {
+		if e := k.store.Replace(k.whole()); e != api.OK {
+			return e
+		}
+	}
+	return k.store.Append(spelling.Record(k.now, x))
+}
+
+// whole spells as one record what the keeper has become; it is empty if nothing has changed yet.
+func (k *Keeper) whole() []byte {
+	var entries []spelling.Entry
+	if k.now > 0 {
+		entries = append(entries, spelling.Entry{Change: seating.Pass{Now: k.now}})
+	}
+	for number, f := range k.flights {
+		if f != nil {
+			entries = append(entries, spelling.Entry{Flight: number, Change: f.Whole()})
+		}
+	}
+	if len(entries) == 0 {
+		return nil
+	}
+	return spelling.Record(0, entries...)
 }
 
 // look looks over a command: the change that it is, or why it is none.
@@ -66,16 +108,16 @@ func (k *Keeper) find(number int) *seating.Flight {
 	return k.flights[number]
 }
 
-// apply does a change: to the flight of the number or, if time passes, to all of them.
-func (k *Keeper) apply(number int, change seating.Change) {
-	if pass, ok := change.(seating.Pass); ok {
+// apply does a change: to its flight or, if time passes, to all of them.
+func (k *Keeper) apply(x spelling.Entry) {
+	if pass, ok := x.Change.(seating.Pass); ok {
 		k.pass(pass)
 		return
 	}
-	if k.flights[number] == nil {
-		k.flights[number] = &seating.Flight{}
+	if k.flights[x.Flight] == nil {
+		k.flights[x.Flight] = &seating.Flight{}
 	}
-	change.Do(k.flights[number])
+	x.Change.Do(k.flights[x.Flight])
 }
 
 // pass lets time pass for all flights.
@@ -140,4 +182,9 @@ func (k *Keeper) Follow(follower int, most int) (api.Bulletin, api.Errno) {
 }
 
 // Pack makes the tape short (P12).
-func (k *Keeper) Pack() api.Errno { return api.OK }
+func (k *Keeper) Pack() api.Errno {
+	if k == nil {
+		return api.ErrShut
+	}
+	return k.store.Shorten(k.whole())
+}

@@ -59,6 +59,7 @@ func TestP1NilKeeperAnswers(t *testing.T) {
 		step{api.ErrTime, tick(0)},
 		step{api.ErrShut, tick(1)},
 	)
+	wantPack(t, k, api.ErrShut)
 }
 
 func TestP2KeepersDoNotChangeOneAnother(t *testing.T) {

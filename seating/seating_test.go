@@ -1,6 +1,7 @@
 package seating
 
 import (
+	"reflect"
 	"testing"
 
 	"berth/api"
@@ -61,5 +62,27 @@ func TestP6EachKindOfChange(t *testing.T) {
 	}
 	if f.seats[place(1, 1)] != booked {
 		t.Errorf("the seat that was moved is %v, want %v", f.seats[place(1, 1)], booked)
+	}
+}
+
+func TestP12WholeMakesTheSameFlight(t *testing.T) {
+	f := started(t)
+	for i, c := range []Change{
+		Pass{Now: 1},
+		Fill{At: place(1, 1), With: Seat{State: api.Held, Party: 5, Class: 2, Until: 10}},
+		Fill{At: place(2, 3), With: Seat{State: api.Booked, Party: 9}},
+		Fill{At: place(2, 2), With: Seat{State: api.Blocked}},
+		Refit{Rows: 4, Cols: 1, Front: 3},
+		Pass{Now: 10},
+	} {
+		c.Do(f)
+		got := &Flight{}
+		f.Whole().Do(got)
+		if !reflect.DeepEqual(got, f) {
+			t.Errorf("behind change %d the whole makes %v of %v", i, got, f)
+		}
+	}
+	if _, started := started(t).Whole().(Start); !started {
+		t.Error("a flight that was made alone is told by more than that")
 	}
 }
